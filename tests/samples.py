@@ -1,0 +1,66 @@
+"""Grids that several tests try, and plain reckonings over all lists of words, none twice."""
+
+from itertools import permutations, product
+from random import Random
+
+from trueword.grids import along, first_gain, round_sum
+
+BIG = 10 ** 60 - 1
+
+
+def all_grids(size, worths):
+    for numbers in product(worths, repeat=size * size):
+        yield [list(numbers[size * t:size * t + size]) for t in range(size)]
+
+
+def drawn_grids(size, count, least, most):
+    # A seeded source, so that each run tries the same grids.
+    source = Random(1000 * size + count)
+    for _ in range(count):
+        yield [[source.randint(least, most) for _ in range(size)] for _ in range(size)]
+
+
+def near_honest_grids(size, count, slack):
+    # Turns that hang on drawn payments and a drawn slack, which is seldom below 0: so rings are few and long ones come.
+    source = Random(77 * size + count)
+    for _ in range(count):
+        pays = [source.randint(-9, 9) for _ in range(size)]
+        yield grid_of_turns(size, {
+            (s, t): pays[t] - pays[s] + source.randint(-1, slack)
+            for s in range(size) for t in range(size) if s != t
+        })
+
+
+def grid_of_turns(size, turns, other=50):
+    """A grid whose turn from s to t is turns[(s, t)], or other where none is told."""
+    return [
+        [7 * t if s == t else 7 * t - turns.get((s, t), other) for s in range(size)]
+        for t in range(size)
+    ]
+
+
+def roads(size):
+    for length in range(1, size + 1):
+        for words in permutations(range(size), length):
+            yield list(words)
+
+
+def fewest_round_below_zero(grid):
+    """How many words the shortest ring has, by trying every list of words, none twice; None without one."""
+    for words in roads(len(grid)):
+        if len(words) > 1 and round_sum(grid, words) < 0:
+            return len(words)
+    return None
+
+
+def payments_by_roads(grid):
+    """For each word the least that the turns along any road that ends with it come to."""
+    size = len(grid)
+    ending = {t: [] for t in range(size)}
+    for words in roads(size):
+        ending[words[-1]].append(along(grid, words))
+    return [min(ending[t]) for t in range(size)]
+
+
+def honest_lists(grid, numbers):
+    return [list(pays) for pays in product(numbers, repeat=len(grid)) if first_gain(grid, list(pays)) is None]

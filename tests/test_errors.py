@@ -1,0 +1,30 @@
+import unittest
+
+from trueword import errors
+
+NAMES = ["NoPays", "NoHouse", "NoMenu", "NoWeight", "NoShare", "NoRule", "NoRow", "NoStand", "NoWord"]
+
+
+class TestErrors(unittest.TestCase):
+    def test_every_refusal_is_a_true_error_and_a_value_error(self):
+        self.assertTrue(issubclass(errors.TrueError, ValueError))
+        for name in NAMES:
+            with self.subTest(name=name):
+                refusal = getattr(errors, name)
+                self.assertEqual(refusal.__name__, name)
+                self.assertEqual(refusal.__bases__, (errors.TrueError,))
+                with self.assertRaises(errors.TrueError):
+                    raise refusal("told")
+                with self.assertRaises(ValueError):
+                    raise refusal("told")
+
+    def test_none_stands_under_another_one(self):
+        for name in NAMES:
+            for other in NAMES:
+                if name != other:
+                    self.assertFalse(issubclass(getattr(errors, name), getattr(errors, other)), (name, other))
+            self.assertFalse(issubclass(errors.TrueError, getattr(errors, name)))
+
+
+if __name__ == "__main__":
+    unittest.main()
