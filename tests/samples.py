@@ -1,11 +1,33 @@
-"""Grids that several tests try, and plain reckonings over all lists of words, none twice."""
+"""Grids and things that several tests try, and plain reckonings over all lists of words, none twice."""
 
 from itertools import permutations, product
 from random import Random
 
+from trueword import errors
 from trueword.grids import along, first_gain, round_sum
 
 BIG = 10 ** 60 - 1
+
+REFUSALS = ("NoPays", "NoHouse", "NoMenu", "NoWeight", "NoShare", "NoRule", "NoRow", "NoStand", "NoWord")
+
+
+class Loud:
+    """A thing that can't be compared, measured or walked."""
+
+    def fail(self, *rest):
+        raise RuntimeError("asked")
+
+    __eq__ = __len__ = __iter__ = __getitem__ = __bool__ = __abs__ = __lt__ = fail
+    __hash__ = None
+
+
+def check_refused(case, name, call, *handed):
+    """The call is refused with the class of that name, and with none of the others."""
+    with case.assertRaises(errors.TrueError) as caught:
+        call(*handed)
+    case.assertIsInstance(caught.exception, ValueError)
+    kinds = [other for other in REFUSALS if isinstance(caught.exception, getattr(errors, other))]
+    case.assertEqual(kinds, [name])
 
 
 def all_grids(size, worths):
@@ -29,6 +51,37 @@ def near_honest_grids(size, count, slack):
             (s, t): pays[t] - pays[s] + source.randint(-1, slack)
             for s in range(size) for t in range(size) if s != t
         })
+
+
+def ringless_grids(size, count, slack):
+    # As above, but the slack is never below 0, and the worths are drawn too: rounds that come to just 0 are many.
+    source = Random(99 * size + count + 13 * slack)
+    for _ in range(count):
+        pays = [source.randint(-9, 9) for _ in range(size)]
+        lowest = source.choice((-6, 12))
+        worths = [lowest + source.randint(0, 18) for _ in range(size)]
+        yield [[worths[t] if s == t else worths[t] - (pays[t] - pays[s] + source.randint(0, slack))
+                for s in range(size)] for t in range(size)]
+
+
+def mixed_grids():
+    """Grids of one to eight words, with rings and without, and with rounds that come to just 0."""
+    for size in range(1, 9):
+        yield from drawn_grids(size, 12, -5, 5)
+        yield from near_honest_grids(size, 12, 2 * size)
+        for slack in (0, 1, 4):
+            yield from ringless_grids(size, 12, slack)
+
+
+def small_grids():
+    """Grids of so few words that all roads can be tried."""
+    yield from all_grids(1, range(-2, 3))
+    yield from all_grids(2, range(-1, 2))
+    yield from drawn_grids(3, 60, -2, 2)
+    for size in (3, 4, 5):
+        for slack in (0, 1, 4):
+            yield from ringless_grids(size, 25, slack)
+    yield from ringless_grids(6, 4, 1)
 
 
 def grid_of_turns(size, turns, other=50):

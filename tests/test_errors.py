@@ -1,14 +1,13 @@
 import unittest
 
+from samples import REFUSALS
 from trueword import errors
-
-NAMES = ["NoPays", "NoHouse", "NoMenu", "NoWeight", "NoShare", "NoRule", "NoRow", "NoStand", "NoWord"]
 
 
 class TestErrors(unittest.TestCase):
     def test_every_refusal_is_a_true_error_and_a_value_error(self):
         self.assertTrue(issubclass(errors.TrueError, ValueError))
-        for name in NAMES:
+        for name in REFUSALS:
             with self.subTest(name=name):
                 refusal = getattr(errors, name)
                 self.assertEqual(refusal.__name__, name)
@@ -19,8 +18,8 @@ class TestErrors(unittest.TestCase):
                     raise refusal("told")
 
     def test_none_stands_under_another_one(self):
-        for name in NAMES:
-            for other in NAMES:
+        for name in REFUSALS:
+            for other in REFUSALS:
                 if name != other:
                     self.assertFalse(issubclass(getattr(errors, name), getattr(errors, other)), (name, other))
             self.assertFalse(issubclass(errors.TrueError, getattr(errors, name)))

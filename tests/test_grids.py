@@ -2,21 +2,11 @@ import unittest
 from copy import deepcopy
 from fractions import Fraction
 
-from samples import BIG, all_grids, drawn_grids, honest_lists
+from samples import BIG, Loud, all_grids, drawn_grids, honest_lists
 from trueword.grids import along, beyond, first_gain, is_grid, round_sum, turn
 
 # Row t holds what each word is worth to say where t is true.
 GRID = [[5, 1, 0], [2, 4, 3], [-1, 6, 7]]
-
-
-class Loud:
-    """A thing that can't be compared, measured or walked."""
-
-    def fail(self, *rest):
-        raise RuntimeError("asked")
-
-    __eq__ = __len__ = __iter__ = __getitem__ = __bool__ = __abs__ = __lt__ = fail
-    __hash__ = None
 
 
 def square(size, worth=0):
