@@ -1,5 +1,6 @@
 """Grids and things that several tests try, and plain reckonings over all lists of words, none twice."""
 
+from fractions import Fraction
 from itertools import permutations, product
 from random import Random
 
@@ -19,6 +20,16 @@ class Loud:
 
     __eq__ = __len__ = __iter__ = __getitem__ = __bool__ = __abs__ = __lt__ = fail
     __hash__ = None
+
+
+THINGS = [None, True, False, 0, 1, -1, 2.5, 1j, "", "a", "ab cd", "Ab", b"", b"a", (), ("a",), ["a"], [], [[]], [()],
+          {}, {"a": 1}, set(), {"a"}, frozenset("a"), range(1), object(), str, along, Fraction(1), Loud()]
+
+
+def self_holder():
+    thing = []
+    thing.append(thing)
+    return thing
 
 
 def check_refused(case, name, call, *handed):
@@ -113,6 +124,12 @@ def payments_by_roads(grid):
     for words in roads(size):
         ending[words[-1]].append(along(grid, words))
     return [min(ending[t]) for t in range(size)]
+
+
+def payments_within_by_roads(grid):
+    """For each word the least that any road that ends with it comes to, from what its first word is worth."""
+    ways = list(roads(len(grid)))
+    return [min(grid[road[0]][road[0]] + along(grid, road) for road in ways if road[-1] == t) for t in range(len(grid))]
 
 
 def honest_lists(grid, numbers):

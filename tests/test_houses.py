@@ -5,17 +5,8 @@ from fractions import Fraction
 from itertools import product
 
 from houses_tried import HANDS, HOUSE, OUTCOMES, lists_of, tuples_of
-from samples import BIG, Loud, check_refused
+from samples import BIG, THINGS, Loud, check_refused, self_holder
 from trueword.houses import house_of, is_name, others_of, row_with, rows_of
-
-THINGS = [None, True, False, 0, 1, -1, 2.5, 1j, "", "a", "ab cd", "Ab", b"", b"a", (), ("a",), ["a"], [], [[]], [()],
-          {}, {"a": 1}, set(), {"a"}, frozenset("a"), range(1), object(), str, is_name, Fraction(1), Loud()]
-
-
-def self_holder():
-    thing = []
-    thing.append(thing)
-    return thing
 
 
 class TestIsName(unittest.TestCase):

@@ -1,7 +1,8 @@
 import unittest
 from copy import deepcopy
 
-from samples import BIG, all_grids, check_refused, grid_of_turns, honest_lists, mixed_grids, roads, small_grids
+from samples import (BIG, all_grids, check_refused, grid_of_turns, honest_lists, mixed_grids, payments_within_by_roads,
+                     roads, small_grids)
 from trueword.grids import along, beyond, first_gain, is_grid
 from trueword.pays import greatest, least
 from trueword.rings import ring
@@ -108,8 +109,7 @@ class TestPayments(unittest.TestCase):
             tried += 1
             words = range(len(grid))
             ways = list(roads(len(grid)))
-            ending = [min(grid[road[0]][road[0]] + along(grid, road) for road in ways if road[-1] == t) for t in words]
-            self.assertEqual(self.check_greatest(grid), ending, grid)
+            self.assertEqual(self.check_greatest(grid), payments_within_by_roads(grid), grid)
             beginning = [max(-along(grid, road) for road in ways if road[0] == t) for t in words]
             self.assertEqual(self.check_least(grid), beginning, grid)
         self.assertGreater(tried, 200)

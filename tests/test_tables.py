@@ -2,21 +2,11 @@ import unittest
 from collections import OrderedDict
 from copy import deepcopy
 
-from houses_tried import HOUSE, lists_of
+from houses_tried import HOUSE, TABLE, columns_of, lists_of, plain_grid, turning_table
 from samples import BIG, Loud
 from trueword.grids import is_grid
-from trueword.houses import house_of, others_of, row_with, rows_of
+from trueword.houses import house_of, rows_of
 from trueword.tables import grid_of, is_table
-
-TABLE = {
-    ("hi", "yes"): "park", ("hi", "no"): "road", ("hi", "so"): "park",
-    ("lo", "yes"): "road", ("lo", "no"): "road", ("lo", "so"): "park",
-}
-
-
-def turning_table(house):
-    """Deals the outcomes in turn, so that no two rows beside one another are dealt alike."""
-    return {row: house[0][place % len(house[0])] for place, row in enumerate(rows_of(house))}
 
 
 class TestIsTable(unittest.TestCase):
@@ -102,13 +92,10 @@ class TestGridOf(unittest.TestCase):
         for sizes in ([3], [8, 8], [2, 3, 5], [8, 8, 4], [4, 2, 3, 5]):
             house = house_of(*lists_of(3, sizes))
             table = turning_table(house)
-            for k, (name, words, worths) in enumerate(house[1]):
-                for others in others_of(house, k):
-                    dealt = [table[row_with(others, k, word)] for word in words]
-                    plain = [[worths[t][house[0].index(outcome)] for outcome in dealt] for t in range(len(words))]
-                    told = grid_of(house, table, k, others)
-                    self.assertEqual(told, plain)
-                    self.assertTrue(is_grid(told))
+            for k, others in columns_of(house):
+                told = grid_of(house, table, k, others)
+                self.assertEqual(told, plain_grid(house, table, k, others))
+                self.assertTrue(is_grid(told))
 
 
 class TestAskersOwn(unittest.TestCase):

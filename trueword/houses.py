@@ -45,6 +45,10 @@ def worths_of_hand(hand):
     return hand[2]
 
 
+def worths_by(hand, word):
+    return worths_of_hand(hand)[words_of_hand(hand).index(word)]
+
+
 def count_of_rows(hands):
     count = 1
     for hand in hands:
@@ -97,9 +101,12 @@ def rows_of(house):
     return rows_over(hands_of(house))
 
 
+def without(things, k):
+    return things[:k] + things[k + 1:]
+
+
 def others_of(house, k):
-    hands = hands_of(house)
-    return rows_over(hands[:k] + hands[k + 1:])
+    return rows_over(without(hands_of(house), k))
 
 
 def row_with(others, k, word):
