@@ -134,3 +134,16 @@ def payments_within_by_roads(grid):
 
 def honest_lists(grid, numbers):
     return [list(pays) for pays in product(numbers, repeat=len(grid)) if first_gain(grid, list(pays)) is None]
+
+
+def spoiled_texts(text, seed, count, signs):
+    """Texts that one to three drawn edits make of this one: some signs left out, put in, doubled or exchanged."""
+    source = Random(seed)
+    for _ in range(count):
+        spoiled = text
+        for _ in range(source.randint(1, 3)):
+            place = source.randint(0, len(spoiled))
+            behind = source.choice((place, place, place + 1, place + source.randint(1, 6)))
+            instead = source.choice(("", source.choice(signs), spoiled[place:behind]))
+            spoiled = spoiled[:place] + instead + spoiled[behind:]
+        yield spoiled

@@ -37,6 +37,10 @@ def name_of(hand):
     return hand[0]
 
 
+def names_of(hands):
+    return [name_of(hand) for hand in hands]
+
+
 def words_of_hand(hand):
     return hand[1]
 
@@ -61,7 +65,7 @@ def makes_house(outcomes, hands):
         return False
     if not all([is_hand(hand, len(outcomes)) for hand in hands]):
         return False
-    return are_names([name_of(hand) for hand in hands], MOST_HANDS) and count_of_rows(hands) <= MOST_ROWS
+    return are_names(names_of(hands), MOST_HANDS) and count_of_rows(hands) <= MOST_ROWS
 
 
 def kept_hand(hand):
